@@ -1,8 +1,10 @@
 package record_test
 
 import (
+	"cmp"
 	"math"
 	"math/rand/v2"
+	"slices"
 	"testing"
 
 	"fascicle/api"
@@ -116,48 +118,113 @@ func TestRisingOfARecordThatMayNotBe(t *testing.T) {
 		expectRising(t, []api.Record{put(4, "a", ""), w.record}, w.e)
 		expectRising(t, []api.Record{w.record, put(6, "a", "")}, w.e)
 		expectRising(t, []api.Record{put(4, "a", ""), w.record, put(6, "a", "")}, w.e)
-		// Of one record Check's errors stand ahead of its order.
+		// Check's errors stand ahead of the order, whichever of two records may not be.
 		expectRising(t, []api.Record{good, w.record}, w.e)
 		expectRising(t, []api.Record{put(9, "a", ""), w.record}, w.e)
-		// The record ahead is asked first.
 		expectRising(t, []api.Record{w.record, good}, w.e)
 		expectRising(t, []api.Record{w.record, put(1, "a", "")}, w.e)
 	}
 }
 
-// P7.3: record by record: whichever stands first is told, a record that may not be, or a Seq that doesn't rise.
-func TestRisingGoesRecordByRecord(t *testing.T) {
+// P7.3, R2: a record that may not be is told ahead of a Seq that doesn't rise, wherever either stands.
+func TestRisingChecksAllAheadOfTheirOrder(t *testing.T) {
+	expectRising(t, []api.Record{{Key: "a"}, {Key: "b"}, {}}, api.ErrForm)
 	for _, w := range wrongs(7) {
-		ahead := append([]api.Record{put(6, "a", ""), w.record}, withSeqs(8, 8, 9)...)
-		expectRising(t, ahead, w.e)
-		behind := append(withSeqs(1, 1, 2), w.record)
-		expectRising(t, behind, api.ErrOrder)
-		expectRising(t, append(withSeqs(2, 1), w.record), api.ErrOrder)
+		expectRising(t, append([]api.Record{put(6, "a", ""), w.record}, withSeqs(8, 8, 9)...), w.e)
+		expectRising(t, append([]api.Record{put(6, "a", ""), w.record}, withSeqs(9, 8)...), w.e)
+		expectRising(t, append(withSeqs(1, 1, 2), w.record), w.e)
+		expectRising(t, append(withSeqs(2, 1), w.record), w.e)
+		expectRising(t, append(withSeqs(8, 8), w.record), w.e)
+		expectRising(t, append(append(withSeqs(2, 1), w.record), withSeqs(8, 9)...), w.e)
+		expectRising(t, append(append(withSeqs(2, 1), w.record), withSeqs(1, 0)...), w.e)
+	}
+}
+
+// P7.3: of several records that may not be the first one is told, with a Seq that doesn't rise ahead of them, between them, behind them, and without one.
+func TestRisingTellsTheFirstRecordThatMayNotBe(t *testing.T) {
+	for _, w := range wrongs(7) {
 		for _, v := range wrongs(9) {
 			expectRising(t, []api.Record{put(1, "a", ""), w.record, v.record}, w.e)
 			expectRising(t, []api.Record{v.record, w.record}, v.e)
+			expectRising(t, append(withSeqs(1, 1), w.record, v.record), w.e)
+			expectRising(t, append(withSeqs(1, 1), v.record, w.record), v.e)
+			between := append([]api.Record{w.record}, withSeqs(8, 8)...)
+			expectRising(t, append(between, v.record), w.e)
+			behind := append([]api.Record{w.record, v.record}, withSeqs(10, 10)...)
+			expectRising(t, behind, w.e)
 		}
 	}
 }
 
-// P7.3: any lists, held against each record and each pair, one behind the other.
+// P7.3, R2: one record that may not be and one pair that doesn't rise, at all places of a list.
+func TestRisingOfBothErrorsAtAllPlaces(t *testing.T) {
+	wrong := wrongs(0)
+	for n := 2; n <= 6; n++ {
+		for pair := 1; pair < n; pair++ {
+			var l []api.Record
+			for i := range n {
+				l = append(l, put(uint64(3*i+3), "k", "v"))
+			}
+			l[pair].Seq = l[pair-1].Seq
+			expectRising(t, l, api.ErrOrder)
+			for i, r := range l {
+				for _, w := range wrong {
+					l[i] = w.record
+					l[i].Seq = r.Seq
+					expectRising(t, l, w.e)
+				}
+				l[i] = r
+			}
+		}
+	}
+}
+
+// modelRising works out what Rising ought to tell of records, by who may be, then by their Seqs.
+func modelRising(l []api.Record) api.Errno {
+	if i := slices.IndexFunc(l, func(r api.Record) bool { return record.Check(r) != api.OK }); i >= 0 {
+		return record.Check(l[i])
+	}
+	bySeq := func(a, b api.Record) int { return cmp.Compare(a.Seq, b.Seq) }
+	alike := func(a, b api.Record) bool { return a.Seq == b.Seq }
+	if !slices.IsSortedFunc(l, bySeq) || len(slices.CompactFunc(slices.Clone(l), alike)) < len(l) {
+		return api.ErrOrder
+	}
+	return api.OK
+}
+
+// anyRecord gives a record with this Seq: mostly one that may be, now and then one of those that may not.
+func anyRecord(r *rand.Rand, seq uint64, wrong []checked) api.Record {
+	if r.IntN(8) == 0 {
+		w := wrong[r.IntN(len(wrong))].record
+		w.Seq = seq
+		return w
+	}
+	if r.IntN(3) == 0 {
+		return gone(seq, long(1+r.IntN(9)))
+	}
+	return put(seq, long(1+r.IntN(9)), long(r.IntN(3)))
+}
+
+// P7.3: any lists, held against a model; each answer comes up, both errors in one list, too.
 func TestRisingOfAnyLists(t *testing.T) {
 	r := rand.New(rand.NewPCG(2, 7))
+	wrong := wrongs(0)
+	times := map[api.Errno]int{}
 	for range 20000 {
 		var l []api.Record
-		seq, want := uint64(0), api.OK
-		for i := range r.IntN(8) {
-			step := uint64(r.IntN(5)) // now and then none
-			next := api.Record{Delete: r.IntN(3) == 0, Seq: seq + step, Key: long(r.IntN(9))}
-			switch {
-			case want != api.OK:
-			case next.Key == "":
-				want = api.ErrForm
-			case step == 0 && i > 0:
-				want = api.ErrOrder
-			}
-			l, seq = append(l, next), next.Seq
+		seq := uint64(20)
+		for range r.IntN(8) {
+			l = append(l, anyRecord(r, seq, wrong))
+			seq += uint64(r.IntN(12)) // now and then none
+			seq -= uint64(r.IntN(3))  // or it falls
 		}
+		want := modelRising(l)
+		times[want]++
 		expectRising(t, l, want)
+	}
+	for _, e := range []api.Errno{api.OK, api.ErrForm, api.ErrLong, api.ErrOrder} {
+		if times[e] < 1000 {
+			t.Errorf("%d of the lists had the answer %d", times[e], e)
+		}
 	}
 }
